@@ -9,6 +9,7 @@ from fractions import Fraction
 
 from steadycraft.crafts import Craft
 from steadycraft.dyads import Format
+from steadycraft.errors import BadCraft
 from steadycraft.plants import Plant
 
 WAYS = ("up", "down", "cut", "near", "far")
@@ -110,6 +111,17 @@ def parts(formula):
     if formula[0] in ("in", "number"):
         return [formula]
     return parts(formula[1]) + parts(formula[2]) + [formula]
+
+
+def some_formula(chance, inputs, many):
+    if many == 0:
+        if chance.random() < 0.6 and inputs:
+            return ("in", chance.randrange(inputs))
+        if chance.random() < 0.5:
+            return ("number", chance.randint(-6, 6))
+        return ("number", pair(Fraction(chance.randint(-9, 9), chance.randint(1, 9))))
+    cut = chance.randrange(many)
+    return (chance.choice(WORDS), some_formula(chance, inputs, cut), some_formula(chance, inputs, many - 1 - cut))
 
 
 # The plant and the craft, place by place and push by push
@@ -228,6 +240,88 @@ def count(wish, places):
     while many <= now and not inside[now - many]:
         many += 1
     return many
+
+
+# Crafts, wishes and runs by chance
+
+def some_box(chance, box):
+    """A box that lies more or less about another one."""
+    spans = []
+    for low, high in box:
+        start = chance.randint(low - 1, high)
+        spans.append((start, chance.randint(start, high + 1)))
+    return tuple(spans)
+
+
+def some_area(chance, box):
+    return tuple(some_box(chance, box) for _ in range(chance.choice((0, 1, 1, 1, 2))))
+
+
+def some_plant(chance, most_places=12):
+    axes = chance.choice((1, 1, 2, 3))
+    box = ()
+    while not box or len(rows(box)) > most_places:
+        box = tuple((low, low + chance.randint(0, 5)) for low in [chance.randint(-3, 3) for _ in range(axes)])
+    modes = []
+    for at in range(chance.choice((1, 1, 2, 3))):
+        formulas = tuple(moving_formula(chance, axes, axis) for axis in range(axes))
+        modes.append((some_area(chance, box), formulas))
+    modes[-1] = (None, modes[-1][1])
+    pushes = tuple((low, low + chance.choice((0, 1, 1, 2))) for low in [chance.randint(-1, 0) for _ in range(axes)])
+    format = Format(chance.randint(4, 6), chance.randint(-3, 0), chance.randint(1, 3))
+    return Plant(format, chance.choice(WAYS), box, tuple(modes), pushes)
+
+
+def moving_formula(chance, axes, axis):
+    if chance.random() < 0.2:
+        return some_formula(chance, axes + 2, chance.randint(0, 3))
+    word = chance.choice(("plus", "plus", "minus"))
+    return (word, ("in", axis), some_formula(chance, axes + 2, chance.randint(0, 1)))
+
+
+def some_craft(chance, most_places=12, lengths=None):
+    while True:
+        plant = some_plant(chance, most_places)
+        axes, items = len(plant.box), chance.randint(1, 2)
+        levers = {tuple(chance.randint(-2, 2) for _ in range(items)) for _ in range(chance.randint(1, 3))}
+        sensors = tuple((some_formula(chance, axes, chance.choice((0, 0, 1))), chance.choice((0, 0, 1)),
+                         chance.choice((0, 0, 1, 2))) for _ in range(chance.choice((1, 1, 2))))
+        low = chance.randint(1, 2)
+        told = (low, chance.randint(low, 3), chance.random() < 0.5) if lengths is None else lengths
+        starts = sorted(chance.sample(rows(plant.box), chance.randint(1, min(3, len(rows(plant.box))))))
+        try:
+            return Craft(plant, tuple(sorted(levers)), sensors, told, tuple(starts))
+        except BadCraft:
+            pass
+
+
+def some_wish(chance, plant, most_k=4):
+    areas, k = [some_area(chance, plant.box) for _ in range(2)], chance.randint(1, most_k)
+    return chance.choice([("never", areas[0]), ("within", areas[0], k), ("answered", areas[0], areas[1], k),
+                          ("ahead", areas[0], areas[1]), ("again", areas[0], k)])
+
+
+def some_wishes(chance, plant, most_k=4):
+    return tuple(some_wish(chance, plant, most_k) for _ in range(chance.randint(0, 4)))
+
+
+def some_run(chance, slow, many):
+    """A run of so many periods, the last one perhaps cut short."""
+    craft = slow.craft
+    low, high, told = craft.lengths
+    place = start = chance.choice(craft.starts)
+    lacks, length, row, periods = (0,) * len(craft.sensors), 0, 0, []
+    for at in range(many):
+        reading = chance.choice(slow.readings(place, lacks, length))
+        lacks = lacks_behind(lacks, reading)
+        length = chance.randint(low if at < many - 1 else 0, high)
+        pushes = tuple(chance.choice(slow.pushes) for _ in range(length))
+        chosen = chance.randrange(len(craft.levers))
+        for push in pushes:
+            place = slow.goals[place, row, push]
+        periods.append((reading, None if at == many - 1 and chance.random() < 0.5 else chosen, pushes))
+        row = chosen
+    return (start, tuple(periods))
 
 
 # Things to judge

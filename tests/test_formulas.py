@@ -55,17 +55,6 @@ def judged(inputs, thing):
     return right(thing, 0) and len(operations) <= 12
 
 
-def some_formula(chance, inputs, many):
-    if many == 0:
-        if chance.random() < 0.6 and inputs:
-            return ("in", chance.randrange(inputs))
-        if chance.random() < 0.5:
-            return ("number", chance.randint(-6, 6))
-        return ("number", support.pair(Fraction(chance.randint(-9, 9), chance.randint(1, 9))))
-    cut = chance.randrange(many)
-    return (chance.choice(WORDS), some_formula(chance, inputs, cut), some_formula(chance, inputs, many - 1 - cut))
-
-
 def no_formulas():
     """What is no formula over two inputs."""
     odd = [("in",), ("in", 2), ("in", -1), ("in", True), ("in", False), ("in", 0, 0), ["in", 0], (["in"], 0),
@@ -109,7 +98,7 @@ class FormulaTest(unittest.TestCase):
         chance = random.Random(3)
         told = {True: 0, False: 0}
         for at in range(300):
-            formula = some_formula(chance, 3, chance.randint(0, 9))
+            formula = support.some_formula(chance, 3, chance.randint(0, 9))
             for thing in [formula] + support.changed(formula, at, 12, support.junk()):
                 right = judged(3, thing)
                 self.assertIs(is_formula(3, thing), right)
@@ -145,7 +134,7 @@ class RunTest(unittest.TestCase):
             values = support.all_values(format)
             for _ in range(40):
                 inputs = chance.randint(1, 6)
-                formula = some_formula(chance, inputs, chance.randint(0, 6))
+                formula = support.some_formula(chance, inputs, chance.randint(0, 6))
                 if is_formula(inputs, formula):
                     row = tuple(chance.randint(-12, 12) for _ in range(inputs))
                     right = self.check(format, values, chance.choice(WAYS), formula, row)
@@ -215,7 +204,7 @@ class UndoneTest(unittest.TestCase):
         for _ in range(120):
             axes = chance.randint(1, 3)
             format = Format(chance.randint(3, 6), chance.randint(-3, 0), chance.randint(0, 3))
-            formula = some_formula(chance, axes, chance.randint(0, 4))
+            formula = support.some_formula(chance, axes, chance.randint(0, 4))
             box = tuple((low, low + chance.randint(0, 4)) for low in [chance.randint(-6, 3) for _ in range(axes)])
             values, goal, way = support.all_values(format), chance.randint(-2, 2), chance.choice(WAYS)
             right = []
@@ -289,7 +278,7 @@ class EnclosureTest(unittest.TestCase):
             axes = chance.randint(1, 3)
             format = Format(chance.randint(3, 7), chance.randint(-4, 0), chance.randint(1, 5))
             box = tuple((low, low + chance.randint(0, 3)) for low in [chance.randint(-6, 6) for _ in range(axes)])
-            formula = some_formula(chance, axes, chance.randint(0, 5))
+            formula = support.some_formula(chance, axes, chance.randint(0, 5))
             yield format, formula, box
 
     def test_enclosed(self):
