@@ -11,7 +11,7 @@ MOST_COUNTED = 100000000
 
 
 def are_levers(thing):
-    if not is_tuple(thing, 1, 5) or not all([is_lever_row(row) for row in thing]):
+    if not is_tuple(1, 5, thing) or not all([is_lever_row(row) for row in thing]):
         return False
     if not all([len(row) == len(thing[0]) for row in thing]):
         return False
@@ -19,14 +19,14 @@ def are_levers(thing):
 
 
 def is_sensor(axes, thing):
-    if not is_tuple(thing, 3, 3):
+    if not is_tuple(3, 3, thing):
         return False
     formula, off, lacks = thing
-    return is_formula(axes, formula) and is_between(off, 0, 20) and is_between(lacks, 0, 3)
+    return is_formula(axes, formula) and is_between(0, 20, off) and is_between(0, 3, lacks)
 
 
 def are_sensors(axes, thing):
-    if not is_tuple(thing, 1, 3) or not all([is_sensor(axes, sensor) for sensor in thing]):
+    if not is_tuple(1, 3, thing) or not all([is_sensor(axes, sensor) for sensor in thing]):
         return False
     many = 1
     for _, off, lacks in thing:
@@ -35,10 +35,10 @@ def are_sensors(axes, thing):
 
 
 def are_lengths(thing):
-    if not is_tuple(thing, 3, 3):
+    if not is_tuple(3, 3, thing):
         return False
     low, high, told = thing
-    return is_between(low, 1, 6) and is_between(high, low, 6) and is_flag(told)
+    return is_between(1, 6, low) and is_between(low, 6, high) and is_flag(told)
 
 
 def is_lot_of(plant, thing):
@@ -135,7 +135,7 @@ def is_lot(craft, thing):
 
 def is_lever(craft, thing):
     """Whether a thing is the number of a lever row."""
-    return is_between(thing, 0, len(craft.levers) - 1)
+    return is_between(0, len(craft.levers) - 1, thing)
 
 
 def led_to(craft, lot, row):

@@ -10,11 +10,11 @@ class Format:
     """Which dyads there are: those of at most so many bits, counted in powers of 2 from low to high."""
 
     def __init__(self, bits, low, high):
-        if not is_between(bits, 2, 24):
+        if not is_between(2, 24, bits):
             raise BadFormat("bits")
-        if not is_between(low, -40, 40):
+        if not is_between(-40, 40, low):
             raise BadFormat("low")
-        if not is_between(high, low, 40):
+        if not is_between(low, 40, high):
             raise BadFormat("high")
         self.bits = bits
         self.low = low
@@ -27,7 +27,7 @@ class Format:
 
 
 def is_dyad(thing):
-    if not is_pair(thing) or not is_integer(thing[0]) or not is_between(thing[1], -200, 200):
+    if not is_pair(thing) or not is_integer(thing[0]) or not is_between(-200, 200, thing[1]):
         return False
     return thing[0] & 1 == 1 or (thing[0] == 0 and thing[1] == 0)
 

@@ -20,7 +20,7 @@ def operations(inputs, thing, deep):
     """How many operations a formula has, at most deep within one another; None for no formula."""
     if is_leaf(inputs, thing):
         return 0
-    if deep == 0 or not is_tuple(thing, 3, 3) or not is_one_of(WORDS, thing[0]):
+    if deep == 0 or not is_tuple(3, 3, thing) or not is_one_of(WORDS, thing[0]):
         return None
     one = operations(inputs, thing[1], deep - 1)
     other = operations(inputs, thing[2], deep - 1)
@@ -31,18 +31,18 @@ def operations(inputs, thing, deep):
 
 def is_leaf(inputs, thing):
     """Whether a thing is an input or a number."""
-    if not is_tuple(thing, 2, 2):
+    if not is_tuple(2, 2, thing):
         return False
     word, value = thing
     if is_one_of(("in",), word):
-        return is_between(value, 0, inputs - 1)
+        return is_between(0, inputs - 1, value)
     return is_one_of(("number",), word) and is_number_told(value)
 
 
 def is_number_told(value):
     if is_fraction(value):
-        return is_between(value[0], -1000, 1000) and value[1] <= 1000
-    return is_between(value, -1000, 1000)
+        return is_between(-1000, 1000, value[0]) and value[1] <= 1000
+    return is_between(-1000, 1000, value)
 
 
 def fraction_of(value):
@@ -74,7 +74,7 @@ def whole_result(format, way, formula, row):
 def check_run(way, formula, row):
     if not is_way(way):
         raise NoWay()
-    if not is_row(row, 1, MOST_INPUTS, -FARTHEST, FARTHEST):
+    if not is_row(1, MOST_INPUTS, -FARTHEST, FARTHEST, row):
         raise NoRow()
     if not is_formula(len(row), formula):
         raise NoFormula()
@@ -92,7 +92,7 @@ def whole_of(format, way, formula, row):
 
 def is_range(thing):
     """Whether a thing is a box of rows for a formula."""
-    return are_spans(thing, 1, MOST_INPUTS, -FARTHEST, FARTHEST)
+    return are_spans(1, MOST_INPUTS, -FARTHEST, FARTHEST, thing)
 
 
 def undone(format, way, formula, box, goal):
@@ -147,7 +147,7 @@ def leaf_over(format, formula, box):
 def is_enclosure(format, formula, box, thing):
     check_box(formula, box)
     many = many_parts(formula)
-    if not is_tuple(thing, many, many):
+    if not is_tuple(many, many, thing):
         return False
     return all([is_interval(format, span) for span in thing]) and steps_hold(format, formula, box, thing)
 

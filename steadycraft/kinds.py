@@ -7,7 +7,7 @@ def is_integer(thing):
     return isinstance(thing, int) and not isinstance(thing, bool)
 
 
-def is_between(thing, least, most):
+def is_between(least, most, thing):
     """Whether a thing is an integer within bounds."""
     return is_integer(thing) and least <= thing <= most
 
@@ -16,13 +16,13 @@ def is_flag(thing):
     return isinstance(thing, bool)
 
 
-def is_tuple(thing, least, most):
+def is_tuple(least, most, thing):
     """Whether a thing is a tuple of so many items, whatever they are."""
     return isinstance(thing, tuple) and least <= len(thing) <= most
 
 
 def is_pair(thing):
-    return is_tuple(thing, 2, 2)
+    return is_tuple(2, 2, thing)
 
 
 def is_one_of(words, thing):
@@ -37,26 +37,26 @@ def is_fraction(thing):
     return thing[1] > 0 and gcd(thing[0], thing[1]) == 1
 
 
-def is_span(thing, least, most):
+def is_span(least, most, thing):
     """Whether a thing is a pair (low, high) of integers within bounds, low not above high."""
-    return is_pair(thing) and is_between(thing[0], least, most) and is_between(thing[1], thing[0], most)
+    return is_pair(thing) and is_between(least, most, thing[0]) and is_between(thing[0], most, thing[1])
 
 
-def are_spans(thing, fewest, many, least, most):
+def are_spans(fewest, many, least, most, thing):
     """Whether a thing is a tuple of such pairs, from fewest to many of them."""
-    return is_tuple(thing, fewest, many) and all([is_span(span, least, most) for span in thing])
+    return is_tuple(fewest, many, thing) and all([is_span(least, most, span) for span in thing])
 
 
-def is_row(thing, fewest, many, least, most):
+def is_row(fewest, many, least, most, thing):
     """Whether a thing is a tuple of integers within bounds, from fewest to many of them."""
-    return is_tuple(thing, fewest, many) and all([is_between(item, least, most) for item in thing])
+    return is_tuple(fewest, many, thing) and all([is_between(least, most, item) for item in thing])
 
 
 def is_row_of(spans, thing):
     """Whether a thing is a tuple of an integer for each pair (low, high), within it."""
-    if not is_tuple(thing, len(spans), len(spans)):
+    if not is_tuple(len(spans), len(spans), thing):
         return False
-    return all([is_between(item, low, high) for item, (low, high) in zip(thing, spans)])
+    return all([is_between(low, high, item) for item, (low, high) in zip(thing, spans)])
 
 
 def ascending(items):

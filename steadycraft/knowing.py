@@ -17,7 +17,7 @@ def are_lacks(craft, thing):
 
 
 def is_length(craft, thing):
-    return is_between(thing, 0, craft.lengths[1])
+    return is_between(0, craft.lengths[1], thing)
 
 
 def readings_at(craft, place, lacks, length):
@@ -52,7 +52,7 @@ def broken_first(craft, wishes):
 
 def is_standing(craft, many, thing):
     """Whether a thing is a place with counts of so many wishes, none of them broken."""
-    return is_pair(thing) and is_place(craft.plant, thing[0]) and is_row(thing[1], many, many, -1, 31)
+    return is_pair(thing) and is_place(craft.plant, thing[0]) and is_row(many, many, -1, 31, thing[1])
 
 
 def are_standings(craft, many, thing):
@@ -64,7 +64,7 @@ def are_standings(craft, many, thing):
 
 def has_knowledge_form(craft, many, thing):
     """Whether a thing has the form of a knowledge, of so many wishes."""
-    if not is_tuple(thing, 4, 4):
+    if not is_tuple(4, 4, thing):
         return False
     row, lacks, length, standings = thing
     if not is_lever(craft, row) or not are_lacks(craft, lacks):
@@ -80,7 +80,7 @@ def is_knowledge(craft, wishes, thing):
 
 def many_counts(thing):
     """How many counts the first standing of what is perhaps a knowledge has; 0 if it has none."""
-    if not is_tuple(thing, 4, 4) or not isinstance(thing[3], tuple) or len(thing[3]) == 0:
+    if not is_tuple(4, 4, thing) or not isinstance(thing[3], tuple) or len(thing[3]) == 0:
         return 0
     standing = thing[3][0]
     return len(standing[1]) if is_pair(standing) and isinstance(standing[1], tuple) else 0
@@ -146,31 +146,24 @@ def led_on_by(craft, wishes, knowledge, row):
     """What can be known at the next begin, for each length if told."""
     acting, lacks, _, standings = knowledge
     low, high, told = craft.lengths
-    layers = layers_of(craft, wishes, standings, acting)[low - 1:]
-    if not told:
-        return ((row, lacks, None, all_standings(layers)),)
-    return tuple([(row, lacks, low + at, all_standings([layer])) for at, layer in enumerate(layers)])
+    step, layer, found = Step(craft, wishes, acting), list(standings), []
+    for length in range(1, high + 1):
+        layer = step.layer_behind(layer)
+        if length >= low:
+            # What comes at any length is known together, unless the length is told.
+            ahead = found[-1][3] if len(found) > 0 and not told else ()
+            found.append((row, lacks, length if told else None, all_standings(ahead, layer)))
+    return tuple(found) if told else (found[-1],)
 
 
-def all_standings(layers):
-    """The ascending tuple of the standings of some layers: TooMany for too many of them."""
-    found = {}
-    for layer in layers:
-        for standing in layer:
-            found[standing] = True
+def all_standings(ahead, layer):
+    """The ascending tuple of the standings of both: TooMany for too many of them."""
+    found = {standing: True for standing in ahead}
+    for standing in layer:
+        found[standing] = True
     if len(found) > MOST_STANDINGS:
         raise TooMany(MOST_STANDINGS)
     return tuple(sorted(list(found)))
-
-
-def layers_of(craft, wishes, standings, row):
-    """For each tick of a period, the list of the standings to which it leads without a break."""
-    step = Step(craft, wishes, row)
-    layers, layer = [], list(standings)
-    for _ in range(craft.lengths[1]):
-        layer = step.layer_behind(layer)
-        layers.append(layer)
-    return layers
 
 
 class Step:
@@ -240,7 +233,7 @@ def is_break_in(craft, wishes, knowledge, thing):
     if not is_pair(thing) or not is_standing(craft, len(wishes), thing[0]):
         return False
     row, _, _, standings = knowledge
-    if thing[0] not in standings or not are_pushes(craft, thing[1], 1, craft.lengths[1]):
+    if thing[0] not in standings or not are_pushes(craft, 1, craft.lengths[1], thing[1]):
         return False
     (place, counts), pushes = thing
     for at, push in enumerate(pushes):

@@ -7,11 +7,11 @@ from steadycraft.kinds import are_spans, is_integer, is_pair, is_row, is_row_of,
 
 
 def is_box(axes, thing):
-    return are_spans(thing, axes, axes, -1000, 1000)
+    return are_spans(axes, axes, -1000, 1000, thing)
 
 
 def is_area(axes, thing):
-    return is_tuple(thing, 0, 6) and all([is_box(axes, box) for box in thing])
+    return is_tuple(0, 6, thing) and all([is_box(axes, box) for box in thing])
 
 
 def in_box(box, place):
@@ -35,11 +35,11 @@ def is_mode(axes, last, thing):
     area, formulas = thing
     if last and area is not None or not last and not is_area(axes, area):
         return False
-    return is_tuple(formulas, axes, axes) and all([is_formula(axes + 2, formula) for formula in formulas])
+    return is_tuple(axes, axes, formulas) and all([is_formula(axes + 2, formula) for formula in formulas])
 
 
 def are_modes(axes, thing):
-    if not is_tuple(thing, 1, 4):
+    if not is_tuple(1, 4, thing):
         return False
     return all([is_mode(axes, at == len(thing) - 1, mode) for at, mode in enumerate(thing)])
 
@@ -52,11 +52,11 @@ class Plant:
             raise BadPlant("form")
         if not is_way(way):
             raise BadPlant("way")
-        if not are_spans(box, 1, 3, -1000, 1000) or many_rows(box) > 400:
+        if not are_spans(1, 3, -1000, 1000, box) or many_rows(box) > 400:
             raise BadPlant("box")
         if not are_modes(len(box), modes):
             raise BadPlant("modes")
-        if not are_spans(pushes, len(box), len(box), -20, 20) or many_rows(pushes) > 81:
+        if not are_spans(len(box), len(box), -20, 20, pushes) or many_rows(pushes) > 81:
             raise BadPlant("pushes")
         self.form = form
         self.way = way
@@ -81,7 +81,7 @@ def is_push(plant, thing):
 
 
 def is_lever_row(thing):
-    return is_row(thing, 1, 2, -100, 100)
+    return is_row(1, 2, -100, 100, thing)
 
 
 def mode_of(plant, place):

@@ -10,13 +10,16 @@ def is_reading(craft, thing):
     """Whether a thing has the form of a reading."""
     _, high, told = craft.lengths
     many = len(craft.sensors)
-    if told:
-        return is_tuple(thing, many + 1, many + 1) and are_counts(thing[:many]) and is_between(thing[many], 0, high)
-    return is_tuple(thing, many, many) and are_counts(thing)
+    if not told:
+        return are_counts(many, thing)
+    if not is_tuple(many + 1, many + 1, thing) or not are_counts(many, thing[:many]):
+        return False
+    return is_between(0, high, thing[many])
 
 
-def are_counts(things):
-    return all([thing is None or is_integer(thing) for thing in things])
+def are_counts(many, thing):
+    """Whether a thing is a tuple of an integer, or None, for each of so many sensors."""
+    return is_tuple(many, many, thing) and all([item is None or is_integer(item) for item in thing])
 
 
 def no_lacks(craft):
@@ -47,19 +50,19 @@ def tells_length(craft, reading, length):
     return not craft.lengths[2] or reading[-1] == length
 
 
-def are_pushes(craft, thing, fewest, most):
-    return is_tuple(thing, fewest, most) and all([is_push(craft.plant, push) for push in thing])
+def are_pushes(craft, fewest, most, thing):
+    return is_tuple(fewest, most, thing) and all([is_push(craft.plant, push) for push in thing])
 
 
 def is_period(craft, last, thing):
     """Whether a thing has the form of a period: the last one may lack its row, and be cut short."""
     low, high, _ = craft.lengths
-    if not is_tuple(thing, 3, 3):
+    if not is_tuple(3, 3, thing):
         return False
     reading, row, pushes = thing
     if not is_lever(craft, row) and not (last and row is None):
         return False
-    return is_reading(craft, reading) and are_pushes(craft, pushes, 0 if last else low, high)
+    return is_reading(craft, reading) and are_pushes(craft, 0 if last else low, high, pushes)
 
 
 def has_run_form(craft, thing):

@@ -11,11 +11,11 @@ WORDS = ("never", "within", "answered", "ahead", "again")
 
 
 def is_wish(axes, thing):
-    if not is_tuple(thing, 2, 4) or not is_one_of(WORDS, thing[0]):
+    if not is_tuple(2, 4, thing) or not is_one_of(WORDS, thing[0]):
         return False
     ahead_of_k = 3 if thing[0] in WITH_OTHER else 2
     if thing[0] in WITH_K:
-        if len(thing) != ahead_of_k + 1 or not is_between(thing[ahead_of_k], 1, 30):
+        if len(thing) != ahead_of_k + 1 or not is_between(1, 30, thing[ahead_of_k]):
             return False
     elif len(thing) != ahead_of_k:
         return False
@@ -23,7 +23,7 @@ def is_wish(axes, thing):
 
 
 def are_wishes(plant, thing):
-    return is_tuple(thing, 0, 4) and all([is_wish(len(plant.box), wish) for wish in thing])
+    return is_tuple(0, 4, thing) and all([is_wish(len(plant.box), wish) for wish in thing])
 
 
 def marks(wishes, place):

@@ -280,7 +280,7 @@ def moving_formula(chance, axes, axis):
 
 
 def some_craft(chance, most_places=12, lengths=None):
-    while True:
+    for _ in range(1000):
         plant = some_plant(chance, most_places)
         axes, items = len(plant.box), chance.randint(1, 2)
         levers = {tuple(chance.randint(-2, 2) for _ in range(items)) for _ in range(chance.randint(1, 3))}
@@ -293,6 +293,7 @@ def some_craft(chance, most_places=12, lengths=None):
             return Craft(plant, tuple(sorted(levers)), sensors, told, tuple(starts))
         except BadCraft:
             pass
+    raise AssertionError("each craft by chance is told to be a bad one")
 
 
 def some_wish(chance, plant, most_k=4):

@@ -11,7 +11,7 @@ from steadycraft.errors import BadFormat, Beyond, NoDyad, NoFraction, Nought, No
 from tests import support
 from tests.support import WAYS, dyad, pair, value
 
-SMALL = [(2, 0, 0), (2, -1, 1), (3, -2, 2), (3, 1, 3), (4, -3, 0), (2, -3, -3), (5, 0, 2)]
+SMALL = [(2, 0, 0), (2, -1, 1), (3, -2, 2), (3, 1, 3), (4, -3, 0), (2, -3, -3), (5, 0, 2), (2, -9, -6), (3, -14, -12)]
 NO_WAYS = [None, 0, True, "", "UP", "upp", "ne", b"up", ["up"], ("up",), "even"]
 
 
@@ -249,6 +249,15 @@ class RoundingTest(unittest.TestCase):
                 word, asked = chance.choice(words)
                 self.same(lambda: support.rounded(values, support.exact(word, one, other), way),
                           asked, format, way, dyad(one), dyad(other))
+
+    def test_nought_has_its_dyad_everywhere(self):
+        for told in [(2, -40, -40), (2, -40, -5), (24, 40, 40), (2, 0, 0), (5, -40, 40)]:
+            format = Format(*told)
+            for asked in (above, below, dyad_of):
+                self.assertEqual(asked(format, (0, 1)), (0, 0))
+            for way in WAYS:
+                self.assertEqual(rounded(format, (0, 1), way), (0, 0))
+                self.assertEqual(plus(format, way, (1, told[2]), (-1, told[2])), (0, 0))
 
     def test_step_of_rounding(self):
         for told in SMALL:

@@ -59,7 +59,7 @@ def no_formulas():
     """What is no formula over two inputs."""
     odd = [("in",), ("in", 2), ("in", -1), ("in", True), ("in", False), ("in", 0, 0), ["in", 0], (["in"], 0),
            ("number", 1001), ("number", -1001), ("number", True), ("number", (2, 4)), ("number", (1, 0)),
-           ("number", (1, -2)), ("number", (1001, 2)), ("number", (1, 1001)), ("number", [1, 2]), ("number", None),
+           ("number", (1, -2)), ("number", (1001, 2)), ("number", (-1001, 2)), ("number", (1, 1001)), ("number", [1, 2]), ("number", None),
            ("number", (1, 2, 3)), ("number", (True, 2)), ("plus", X), ("plus", X, X, X), ("Plus", X, X),
            ("up", X, X), ["plus", X, X], ("plus", X, ["in", 0]), ("plus", X, ("in", 5)), (b"in", 0), "in0", X + Y,
            deep(7), wide(13), ("plus", wide(12), X), (0, X, X), (None, X, X), ((), X, X), ("in", X, X)]

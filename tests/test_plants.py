@@ -44,7 +44,7 @@ class PlantTest(unittest.TestCase):
             stay = tuple(("in", axis) for axis in range(len(box)))
             plant = Plant(F, "up", box, ((None, stay),), ((0, 0),) * len(box))
             self.assertEqual(plant.box, box)
-        odd = [(), ((0, 400),), ((0, 20), (1, 20)), ((-1001, 0),), ((1, 1001),), ((1, 0),), ((0, 1),) * 4, [(0, 1)],
+        odd = [(), ((0, 400),), ((0, 20), (1, 20)), ((-1001, -1000),), ((1000, 1001),), ((1, 0),), ((0, 1),) * 4, [(0, 1)],
                ([0, 1],), ((0, True),), ((False, 1),), ((0, 1, 2),), ((0,),), ((0, None),), (None,), (0, 1)]
         for box in odd + [thing for thing in support.junk() if thing != ((1, 2),)]:
             self.wrong("box", box=box)
@@ -77,7 +77,7 @@ class PlantTest(unittest.TestCase):
             self.assertEqual(plant_with(pushes=pushes).pushes, pushes)
         box, stay = ((0, 1), (0, 1)), (None, (("in", 0), ("in", 1)))
         self.assertEqual(plant_with(box=box, modes=(stay,), pushes=((-4, 4), (0, 8))).pushes, ((-4, 4), (0, 8)))
-        for pushes in [((-4, 4), (0, 9)), ((0, 40), (0, 1)), ((0, 1),), ((0, 1),) * 3]:
+        for pushes in [((-4, 4), (0, 9)), ((-20, 20), (0, 1)), ((0, 1),), ((0, 1),) * 3]:
             self.wrong("pushes", box=box, modes=(stay,), pushes=pushes)
         odd = [(), ((-21, 0),), ((0, 21),), ((1, 0),), ((0, 1), (0, 1)), [(0, 1)], ((0, True),), ((0, 1, 2),), (0, 1)]
         for pushes in odd + [thing for thing in support.junk() if thing != ((1, 2),)]:
