@@ -175,6 +175,7 @@ class Step:
         self._row = row
         self._marks = {}
         self._counts = {}
+        self._unbroken = {}
 
     def counts_behind(self, counts, place):
         """The counts at the next tick, with this place there; None if a wish breaks."""
@@ -190,6 +191,14 @@ class Step:
         """For each place to which some push leads, the pair of it and the counts there, or None."""
         place, counts = standing
         return [(goal, self.counts_behind(counts, goal)) for goal in self._craft.nexts(place, self._row)]
+
+    def unbroken_behind(self, standing):
+        """The list of the standings to which a tick can lead; None if a wish can break by it."""
+        if standing not in self._unbroken:
+            behind = self.standings_behind(standing)
+            breaks = any([counts is None for _, counts in behind])
+            self._unbroken[standing] = None if breaks else behind
+        return self._unbroken[standing]
 
     def layer_behind(self, standings):
         """The list of the standings to which a tick leads from one of them without a break."""

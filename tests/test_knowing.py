@@ -11,47 +11,9 @@ from steadycraft.knowing import readings_at
 from steadycraft.plants import Plant
 from steadycraft.wishes import begun, counted
 from tests import support
+from tests.playing import in_order, is_knowledge as judged
 
 X = ("in", 0)
-
-
-def is_integer(thing):
-    return type(thing) is int
-
-
-def is_number_to(thing, most):
-    return is_integer(thing) and 0 <= thing <= most
-
-
-def in_order(found):
-    return sorted(found, key=lambda reading: [(item is not None, item or 0) for item in reading])
-
-
-def judged(craft, many, thing):
-    """Whether a thing has the form of a knowledge of so many wishes, by the document's words."""
-    _, high, told = craft.lengths
-    if type(thing) is not tuple or len(thing) != 4:
-        return False
-    row, lacks, length, standings = thing
-    if not is_number_to(row, len(craft.levers) - 1):
-        return False
-    if type(lacks) is not tuple or len(lacks) != len(craft.sensors):
-        return False
-    if not all(is_number_to(one, most) for one, (_, _, most) in zip(lacks, craft.sensors)):
-        return False
-    if not (is_number_to(length, high) if told else length is None) or type(standings) is not tuple:
-        return False
-    for standing in standings:
-        if type(standing) is not tuple or len(standing) != 2:
-            return False
-        place, counts = standing
-        if type(place) is not tuple or not all(map(is_integer, place)) or place not in support.rows(craft.plant.box):
-            return False
-        if type(counts) is not tuple or len(counts) != many:
-            return False
-        if not all(is_integer(count) and -1 <= count <= 31 for count in counts):
-            return False
-    return list(standings) == sorted(set(standings))
 
 
 def some_knowledge(chance, slow, wishes, many=6):
