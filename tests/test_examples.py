@@ -5,13 +5,17 @@ import importlib
 import inspect
 import unittest
 
-from steadycraft import crafts, formulas, knowing, plants, spans, wishes as wishing
+from steadycraft import (coarse, codes, crafts, formulas, games, knowing, machines, plants, programs, running, slimming,
+                         spans, stories, wishes as wishing)
 from steadycraft.crafts import Craft, after, box_after
 from steadycraft.dyads import Format, above, below, plus, rounded
 from steadycraft.formulas import enclosed, run, undone
 from steadycraft.knowing import first, led, read
 from steadycraft.plants import Plant, tick
+from steadycraft.boxing import boxes
+from steadycraft.games import beaten, least_rank, steady
 from steadycraft.spans import times_in
+from steadycraft.stories import known, run_to
 from steadycraft.wishes import breaks_at, broken
 
 f = Format(3, -2, 2)
@@ -41,6 +45,24 @@ INTERFACE = {
                 "is_knowledge(craft, wishes, thing)", "readings(craft, knowledge)", "read(craft, knowledge, reading)",
                 "led(craft, wishes, knowledge, row)", "break_in(craft, wishes, knowledge)",
                 "is_break_in(craft, wishes, knowledge, thing)"],
+    "stories": ["known(craft, wishes, story)", "run_to(craft, wishes, story, standing)",
+                "is_run_to(craft, wishes, story, standing, thing)"],
+    "boxing": ["boxes(lot, many)", "boxed(craft, boxes)"],
+    "nodes": ["roots(craft, wishes)", "children(craft, wishes, node, row)"],
+    "games": ["is_choice(craft, wishes, thing)", "is_spoiler(craft, wishes, thing)",
+              "rank_of(craft, wishes, spoiler)", "steady(craft, wishes)", "least_rank(craft, wishes)",
+              "beaten(craft, wishes, spoiler, telling)", "longest(craft, wishes)", "least_k(craft, wishes, index)",
+              "surest(craft, wishes, node)", "lasts(craft, wishes, many)"],
+    "machines": ["is_machine(craft, thing)", "rows_of(craft, machine, readings)",
+                 "machine_of(craft, wishes, choice)"],
+    "slimming": ["joined(craft, machine, one, other)", "slim(craft, machine)", "clash(craft, machine, one, other)",
+                 "does_work(craft, machine, thing)", "is_slim(craft, machine, thing)"],
+    "coarse": ["steady_by(craft, wishes, k)", "is_choice_by(craft, wishes, k, thing)", "least_boxes(craft, wishes)",
+               "machine_by(craft, wishes, k, choice)"],
+    "programs": ["Program(shape, form, kept, knocks, forms, bodies, handler)", "first_stand(program)",
+                 "walked(program, stand, reading)", "handled(program, stand)"],
+    "codes": ["Code(shape, form, cells, forms, rows, handler)"],
+    "running": ["ran(code, stand, reading, knocks)", "is_apart(code)"],
     "wishes": ["are_wishes(plant, thing)", "broken(wishes, places)", "begun(wishes, place)",
                "counted(wishes, counts, place)", "harder(one, other)", "breaks_at(craft, wishes, run)",
                "is_breaking(craft, wishes, thing)"],
@@ -80,13 +102,29 @@ class ExamplesTest(unittest.TestCase):
         behind = led(craft, wishes, read(craft, known, (2,)), 1)
         self.assertEqual(behind, ((1, (0,), None, (((2,), (0,)), ((3,), (0,)))),))
 
+    def test_e08(self):
+        story = (((2,), 1), ((3,), None))
+        self.assertEqual(known(craft, wishes, story), (1, (0,), None, (((3,), (0,)),)))
+        self.assertEqual(run_to(craft, wishes, story, ((3,), (0,))), ((2,), (((2,), 1, ((1,),)), ((3,), None, ()))))
+
+    def test_e09(self):
+        self.assertEqual(boxes(((0,), (1,), (5,)), 2), (((0, 1),), ((5, 5),)))
+
     def test_e10(self):
         self.assertEqual(broken((("within", (((0, 0),),), 2),), [(2,), (1,), (1,)]), (2, 0))
         self.assertEqual(broken((("again", (((0, 0),),), 1),), [(0,), (1,), (1,)]), (2, 0))
 
+    def test_e11(self):
+        self.assertEqual(steady(craft, wishes)[0], "made")
+        self.assertIsNone(least_rank(craft, wishes))
+        at_three = Craft(plant, ((0,), (-1,)), ((("in", 0), 0, 0),), (1, 1, False), ((3,),))
+        self.assertEqual(least_rank(at_three, wishes), 0)
+
     def test_e12(self):
         alone = Craft(plant, ((0,),), ((("in", 0), 0, 0),), (1, 1, False), ((2,),))
         told = ((2,), (((2,), 0, ((1,),)), ((3,), 0, ((1,),))))
+        self.assertEqual(least_rank(alone, wishes), 1)
+        self.assertEqual(beaten(alone, wishes, steady(alone, wishes)[1], lambda readings: 0), told)
         self.assertEqual(breaks_at(alone, wishes, told), (1, 1, 0))
 
 
@@ -115,7 +153,46 @@ class GeneralTest(unittest.TestCase):
             knowing.break_in(craft, wishes, first(craft, wishes))
             led(craft, wishes, first(craft, wishes), 0)
             wishing.is_breaking(craft, wishes, ((2,), (((2,), None, ()),)))
+            games.longest(craft, wishes)
+            coarse.least_boxes(craft, wishes)
+            stories.run_to(craft, wishes, (((2,), 1), ((3,), None)), ((3,), (0,)))
         self.assertEqual(vars(craft), before)
+
+    def test_dicts_that_are_passed_are_not_changed(self):
+        choice, alone = steady(craft, wishes)[1], Craft(plant, ((0,),), ((("in", 0), 0, 0),), (1, 1, False), ((2,),))
+        spoiler, before = steady(alone, wishes)[1], dict(choice)
+        ranked = dict(spoiler[1])
+        machine = machines.machine_of(craft, wishes, choice)
+        points = tuple(dict(point) for point in machine)
+        for _ in range(2):
+            games.is_choice(craft, wishes, choice)
+            coarse.is_choice_by(craft, wishes, 2, choice)
+            coarse.machine_by(craft, wishes, 2, choice)
+            games.is_spoiler(alone, wishes, spoiler)
+            beaten(alone, wishes, spoiler, lambda readings: 0)
+            machines.rows_of(craft, machine, [(2,), (3,)])
+            slimming.slim(craft, machine)
+            slimming.joined(craft, machine, 0, 1)
+            slimming.clash(craft, machine, 0, 1)
+            slimming.is_slim(craft, machine, machine)
+        self.assertEqual((choice, spoiler[1], machine), (before, ranked, points))
+
+    def test_programs_and_code_do_not_change(self):
+        program = programs.Program((1, False, 2), f, ("a",), ("k",), ("x",), ((("set", "a", ("count", 0)),),),
+                                   (("set", "k", ("number", 1)),))
+        code = codes.Code((1, False, 2), f, (1, 1, 1), (1, 1), (("count", 0, 0), ("store", 0, 0), ("end",)), 2)
+        stand = ((3,), (4,), ((1, 0),))
+        before = copy.deepcopy((vars(program), vars(code), stand))
+        for _ in range(2):
+            self.assertEqual(programs.walked(program, stand, (7,)), ("done", None, ((7,), (4,), ((1, 0),))))
+            self.assertEqual(programs.handled(program, stand), ((3,), (1,), ((1, 0),)))
+            self.assertEqual(running.ran(code, stand, (7,), (0, 1)), ("done", None, ((7,), (4,), ((1, 0),)), 5, 0))
+            self.assertIs(running.is_apart(code), True)
+        self.assertEqual((vars(program), vars(code), stand), before)
+        for one in (program, code, craft, plant, f):
+            for other in (program, code, craft, plant, f):
+                self.assertIs(one == other, one is other)
+                self.assertIs(one != other, one is not other)
 
     def test_objects_made_anew_are_equal(self):
         self.assertEqual(copy.deepcopy(craft), craft)
@@ -129,6 +206,10 @@ class GeneralTest(unittest.TestCase):
     def test_flags_are_flags(self):
         told = [formulas.is_formula(1, third), spans.is_interval(f, ((0, 0), (1, 0))), plants.is_in((), (1,)),
                 knowing.is_knowledge(craft, wishes, first(craft, wishes)), wishing.are_wishes(plant, wishes),
+                games.is_choice(craft, wishes, {}), games.is_spoiler(craft, wishes, ("start", (4,))),
+                games.lasts(craft, wishes, 3), coarse.is_choice_by(craft, wishes, 1, None),
+                machines.is_machine(craft, ({},)), slimming.does_work(craft, ({},), ({},)),
+                slimming.is_slim(craft, ({},), ({},)), stories.is_run_to(craft, wishes, (((2,), None),), ((2,), (0,)), 1),
                 wishing.harder(wishes[0], wishes[0]), wishing.is_breaking(craft, wishes, None)]
         self.assertEqual([type(flag) for flag in told], [bool] * len(told))
 

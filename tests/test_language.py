@@ -66,7 +66,7 @@ class LanguageTest(unittest.TestCase):
                 if isinstance(node, ast.Expr):
                     self.assertIsInstance(node.value, ast.Constant)
                 if isinstance(node, ast.Assign):
-                    ast.literal_eval(node.value)
+                    self.plain(path, node.value, bound)
                     bound += [target.id for target in node.targets]
                 if isinstance(node, ast.ImportFrom):
                     bound += [alias.name for alias in node.names]
@@ -74,10 +74,36 @@ class LanguageTest(unittest.TestCase):
                     bound.append(node.name)
             self.assertEqual(len(bound), len(set(bound)), path)
 
+    def plain(self, path, value, bound):
+        """A literal, or a dict of literals and of functions defined above."""
+        items = value.values if isinstance(value, ast.Dict) else [value]
+        for item in items:
+            if isinstance(value, ast.Dict) and isinstance(item, ast.Name):
+                self.assertIn(item.id, bound, self.where(path, item))
+            else:
+                told = ast.literal_eval(item)
+                if isinstance(told, (tuple, dict)):
+                    self.assertNotIn("[", repr(told))
+
+    def test_tables_are_only_read(self):
+        tables = {target.id for path, tree in trees() for node in tree.body if isinstance(node, ast.Assign)
+                  and isinstance(node.value, (ast.Dict, ast.List)) for target in node.targets}
+        self.assertLessEqual({"PARTS", "ITEMS", "ACTIONS", "BEATS"}, tables)
+        for path, tree in trees():
+            right = {id(node.value) for node in ast.walk(tree) if isinstance(node, ast.Subscript)
+                     and isinstance(node.ctx, ast.Load)}
+            right |= {id(node.comparators[0]) for node in ast.walk(tree) if isinstance(node, ast.Compare)
+                      and isinstance(node.ops[0], (ast.In, ast.NotIn))}
+            for node in ast.walk(tree):
+                if isinstance(node, ast.Name) and node.id in tables and isinstance(node.ctx, ast.Load):
+                    self.assertIn(id(node), right, self.where(path, node))
+
     def test_imports(self):
         defined = {}
         for path, tree in trees():
             defined[path.stem] = {node.name for node in tree.body if isinstance(node, (ast.FunctionDef, ast.ClassDef))}
+            defined[path.stem] |= {target.id for node in tree.body if isinstance(node, ast.Assign)
+                                   for target in node.targets}
         needs = {path.stem: set() for path in files()}
         for path, node in walked((ast.Import, ast.ImportFrom)):
             self.assertIsInstance(node, ast.ImportFrom, self.where(path, node))
@@ -133,12 +159,14 @@ class LanguageTest(unittest.TestCase):
 
     def test_calls(self):
         own = {node.name for _, node in walked((ast.FunctionDef, ast.ClassDef))}
+        # What a caller passes, and what comes from a table of functions.
+        own |= {"telling", "action"}
         for path, node in walked(ast.Call):
             where = self.where(path, node)
             self.assertFalse(any(isinstance(arg, ast.Starred) for arg in node.args), where)
             if isinstance(node.func, ast.Name):
                 self.assertIn(node.func.id, own | BUILTINS | LIBRARY["math"], where)
-                self.assertLessEqual({word.arg for word in node.keywords}, {"key"}, where)
+                self.assertLessEqual({word.arg for word in node.keywords}, {"key", "default"}, where)
             else:
                 self.assertIsInstance(node.func, ast.Attribute, where)
                 self.assertIn(node.func.attr, own | METHODS, where)
