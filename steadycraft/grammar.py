@@ -76,8 +76,9 @@ class Grammar:
         if is_worded("set", 2, thing):
             return self.is_name(thing[1]) and self.is_looked_at("expression", thing[2])
         if is_worded("if", 3, thing):
-            many = self.parts_of_test(thing[1], DEEPEST_TEST)
-            return many is not None and self.is_body(thing[2], deep) and self.is_body(thing[3], deep)
+            if not self.is_test(thing[1], DEEPEST_TEST) or not are_few_parts(leaves_of(thing[1])):
+                return False
+            return self.is_body(thing[2], deep) and self.is_body(thing[3], deep)
         if is_worded("choose", 3, thing):
             if not self.is_looked_at("expression", thing[1]) or not self.is_body(thing[3], deep):
                 return False
@@ -103,37 +104,32 @@ class Grammar:
         return is_word(thing) and (self._knocks is None or thing in self._knocks)
 
     def is_looked_at(self, sort, thing):
-        return self.parts(sort, thing, DEEPEST_PART) is not None
+        return self.is_part(sort, thing, DEEPEST_PART) and are_few_parts([thing])
 
-    def parts_of_test(self, thing, deep):
-        """How many parts the leaves of a test have; None for no test, too many, or too deep."""
+    def is_test(self, thing, deep):
+        """Whether a thing is a test of at most so many within one another, however many parts it has."""
         if deep == 0:
-            return None
+            return False
         if is_worded("not", 1, thing):
-            return self.parts_of_test(thing[1], deep - 1)
-        if not is_worded("both", 2, thing) and not is_worded("either", 2, thing):
-            return self.parts("leaf", thing, DEEPEST_PART + 1)
-        one = self.parts_of_test(thing[1], deep - 1)
-        other = None if one is None else self.parts_of_test(thing[2], deep - 1)
-        return None if other is None or one + other > MOST_PARTS else one + other
+            return self.is_test(thing[1], deep - 1)
+        if is_worded("both", 2, thing) or is_worded("either", 2, thing):
+            return self.is_test(thing[1], deep - 1) and self.is_test(thing[2], deep - 1)
+        return self.is_part("leaf", thing, DEEPEST_PART + 1)
 
-    def parts(self, sort, thing, deep):
-        """How many parts a part of a sort has; None for none, too many, or too deep."""
+    def is_part(self, sort, thing, deep):
+        """Whether a thing is a part of a sort, of at most so many within one another."""
         if deep == 0 or not is_tuple(1, 4, thing) or not isinstance(thing[0], str) or not self.lets(sort, thing[0]):
-            return None
+            return False
         _, kinds = PARTS[thing[0]]
         if len(thing) != len(kinds) + 1:
-            return None
-        many = 1
+            return False
         for kind, item in zip(kinds, thing[1:]):
             if kind in SORTS:
-                inner = self.parts(kind, item, deep - 1)
-                if inner is None or many + inner > MOST_PARTS:
-                    return None
-                many += inner
+                if not self.is_part(kind, item, deep - 1):
+                    return False
             elif not self.is_item(kind, item):
-                return None
-        return many
+                return False
+        return True
 
     def lets(self, sort, word):
         """Whether a word is one of this sort, and may stand here."""
@@ -153,12 +149,27 @@ class Grammar:
         return is_way(thing) if kind == "way" else is_word(thing)
 
 
-def many_leaves(test):
+def leaves_of(test):
+    """The leaves of a test, as they are written."""
     if test[0] == "not":
-        return many_leaves(test[1])
+        return leaves_of(test[1])
     if test[0] == "both" or test[0] == "either":
-        return many_leaves(test[1]) + many_leaves(test[2])
-    return 1
+        return leaves_of(test[1]) + leaves_of(test[2])
+    return [test]
+
+
+def parts_of(part):
+    """A part, and all that stand within it."""
+    found = [part]
+    for kind, item in zip(PARTS[part[0]][1], part[1:]):
+        if kind in SORTS:
+            found.extend(parts_of(item))
+    return found
+
+
+def are_few_parts(things):
+    """Whether what is looked at at a statement has few enough parts."""
+    return sum([len(parts_of(thing)) for thing in things]) <= MOST_PARTS
 
 
 def unfolded(body, sizes):
@@ -170,7 +181,7 @@ def unfolded_statement(statement, sizes):
     word = statement[0]
     if word == "if":
         _, test, one, other = statement
-        return 1 + many_leaves(test) + unfolded(one, sizes) + unfolded(other, sizes)
+        return 1 + len(leaves_of(test)) + unfolded(one, sizes) + unfolded(other, sizes)
     if word == "choose":
         _, _, cases, last = statement
         return 1 + sum([unfolded(body, sizes) for _, body in cases]) + unfolded(last, sizes)

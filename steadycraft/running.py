@@ -234,6 +234,19 @@ def ran(code, stand, reading, knocks):
     return word, period.row, period.stand(), period.beats, period.deep
 
 
+def first_of(code):
+    """The stand of code ahead of its first period."""
+    kept, knocks, _ = code.cells
+    return (0,) * kept, (0,) * knocks, (NOUGHT,) * code.forms[0]
+
+
+def undisturbed(code, stand, reading):
+    """A period that was gone through without knocks, and its word."""
+    period = Period(code, stand, reading)
+    word = period.goes_through(())
+    return period, word
+
+
 def rows_from(code, number, leads_nowhere):
     """The numbers of the rows that can be come to from a row; rows of some words lead nowhere."""
     met = [False] * len(code.rows)
