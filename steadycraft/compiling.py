@@ -31,14 +31,14 @@ class Block:
     def __init__(self, cells, first_spare, held):
         self._cells = cells
         self._held = {place: held[place] for place in held}
-        self.rows = []
+        self.steps = []
         # The next form cell that is free to put something aside, and how many of them are taken.
         self._spare = first_spare
         self.end_of_spares = first_spare
 
     def does(self, row, used, place, thing):
         """Adds a row that uses up what some places hold, and by which a place, if any, holds a thing."""
-        self.rows.append((row, tuple(sorted(list(self._held.items())))))
+        self.steps.append((row, tuple(sorted(list(self._held.items())))))
         for gone in used:
             del self._held[gone]
         if place is not None:
@@ -120,13 +120,13 @@ class Maker:
             while spot is not None and spot not in self.begins:
                 spot = self.make_spot(spot)
                 if spot in self.begins:
-                    self.add(("go", self.begins[spot]), spot, self.claims[self.begins[spot]][1] + 1, ())
+                    self.put_row(("go", self.begins[spot]), spot, self.claims[self.begins[spot]][1] + 1, ())
 
     def fill_gaps(self):
         for number, spot in self._gaps:
             self.rows[number] = self.rows[number] + (self.begins[spot],)
 
-    def add(self, row, spot, left, held):
+    def put_row(self, row, spot, left, held):
         if len(self.rows) == MOST_ROWS:
             raise TooMany(MOST_ROWS)
         self.rows.append(row)
@@ -142,8 +142,8 @@ class Maker:
         block = Block(self._cells, self._first_spare, held)
         target, behind = self.fill(block, bodies, spot)
         self.many_form_cells = max(self.many_form_cells, block.end_of_spares)
-        for at, (row, holds) in enumerate(block.rows):
-            self.add(row, spot, len(block.rows) - 1 - at, holds)
+        for at, (row, holds) in enumerate(block.steps):
+            self.put_row(row, spot, len(block.steps) - 1 - at, holds)
         if target is not None:
             self._gaps.append((len(self.rows) - 1, target))
             self._todo.append(target)

@@ -7,7 +7,7 @@ from steadycraft.spots import HANDLER, begin, bodies_about, is_end, looked_at, n
 from steadycraft.spots import statements_of, things_looked_at
 
 # The letter by which places of a kind are told.
-LETTERS = {"register": "r", "form register": "f", "cell": "c", "form cell": "d"}
+LETTER_OF = {"register": "r", "form register": "f", "cell": "c", "form cell": "d"}
 # By letters, the kind of a place and the sort of what it holds.
 KINDS = {"r": ("register", "expression"), "f": ("form register", "form"),
          "c": ("cell", "expression"), "d": ("form cell", "form")}
@@ -80,8 +80,8 @@ def places_of(row):
     """The registers and cells of a row, the one that gets something first; and its other items."""
     places, others = [], []
     for kind, item in zip(ITEMS[row[0]], row[1:]):
-        if kind in LETTERS:
-            places.append((LETTERS[kind], item))
+        if kind in LETTER_OF:
+            places.append((LETTER_OF[kind], item))
         else:
             others.append(item)
     return places, tuple(others)

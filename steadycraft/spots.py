@@ -182,7 +182,8 @@ def statements_of(program):
     """All statements of a program, those within others too."""
     found, todo = [], [program.handler] + list(program.bodies)
     while len(todo) > 0:
-        for statement in todo.pop():
+        body = todo.pop()
+        for statement in body:
             found.append(statement)
             todo.extend(bodies_in(statement))
     return found

@@ -10,7 +10,10 @@ from steadycraft.slimming import readings_to
 
 MOST_READINGS = 2000
 MOST_TRIPLES = 100000
+# A point is told by two numbers where there are many, so that few cases are compared with each.
 POINT = "point"
+GROUP = "group"
+MOST_IN_GROUP = 64
 
 
 def shape_of(craft):
@@ -28,13 +31,52 @@ def table_program(craft, machine):
     check_machine(craft, machine)
     if sum([len(point) for point in machine]) > MOST_READINGS:
         raise TooMany(MOST_READINGS)
-    cases = []
-    for number, point in enumerate(machine):
-        readings = readings_asked(craft, point)
-        if len(readings) > 0:
-            cases.append((number, answering(len(craft.sensors), point, readings, 0)))
-    body = choosing(("name", POINT), cases) if len(cases) > 0 else ()
-    return Program(shape_of(craft), craft.plant.form, (POINT,), (), (), (body,), ())
+    table = Table(craft, machine)
+    return Program(shape_of(craft), craft.plant.form, table.names, (), (), (table.body(),), ())
+
+
+class Table:
+    """The bodies by which a program answers as a machine."""
+
+    def __init__(self, craft, machine):
+        self._craft = craft
+        self._machine = machine
+        self.names = (POINT,) if len(machine) <= MOST_IN_GROUP else (GROUP, POINT)
+
+    def body(self):
+        groups = {}
+        for number, point in enumerate(self._machine):
+            readings = readings_asked(self._craft, point)
+            if len(readings) > 0:
+                group, rest = divmod(number, MOST_IN_GROUP)
+                groups.setdefault(group, []).append((rest, self.answering(point, readings, 0)))
+        if len(groups) == 0:
+            return ()
+        return choosing(("name", GROUP), [(group, choosing(("name", POINT), groups[group])) for group in groups])
+
+    def going_on(self, behind):
+        """Statements by which the next period begins at a point."""
+        group, rest = divmod(behind, MOST_IN_GROUP)
+        found = (("set", POINT, ("number", rest)),)
+        return found if GROUP not in self.names else found + (("set", GROUP, ("number", group)),)
+
+    def answering(self, point, readings, at):
+        """A body that answers some readings, all alike ahead of an item; it tells apart only what it must."""
+        if len(readings) == 1:
+            row, behind = point[readings[0]]
+            return (("row", ("number", row)),) + self.going_on(behind)
+        expression = ("count", at) if at < len(self._craft.sensors) else ("length",)
+        groups = {}
+        for reading in readings:
+            groups.setdefault(reading[at], []).append(reading)
+        bodies = {item: self.answering(point, groups[item], at + 1) for item in groups}
+        lacking = bodies.pop(None, None)
+        if len(bodies) == 0:
+            return lacking
+        counted = choosing(expression, list(bodies.items()))
+        if lacking is None:
+            return counted
+        return (("if", ("same", ("lacks", at), ("number", 1)), lacking, counted),)
 
 
 def choosing(expression, cases):
@@ -42,25 +84,6 @@ def choosing(expression, cases):
     if len(cases) == 1:
         return cases[0][1]
     return (("choose", expression, tuple(cases[:-1]), cases[-1][1]),)
-
-
-def answering(sensors, point, readings, at):
-    """A body that answers some readings, all alike ahead of an item; it tells apart only what it must."""
-    if len(readings) == 1:
-        row, behind = point[readings[0]]
-        return (("row", ("number", row)), ("set", POINT, ("number", behind)))
-    expression = ("count", at) if at < sensors else ("length",)
-    groups = {}
-    for reading in readings:
-        groups.setdefault(reading[at], []).append(reading)
-    bodies = {item: answering(sensors, point, groups[item], at + 1) for item in groups}
-    lacking = bodies.pop(None, None)
-    if len(bodies) == 0:
-        return lacking
-    counted = choosing(expression, list(bodies.items()))
-    if lacking is None:
-        return counted
-    return (("if", ("same", ("lacks", at), ("number", 1)), lacking, counted),)
 
 
 def check_steered(craft, machine, code):
