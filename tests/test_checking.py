@@ -9,13 +9,16 @@ from steadycraft.checking import (checked, checked_code, is_failing, is_failing_
 from steadycraft.codes import Code
 from steadycraft.compiling import compiled
 from steadycraft.crafts import Craft
+from steadycraft.dyads import Format
 from steadycraft.errors import NoMachine, NotApart, NoShape, TooMany
-from steadycraft.games import is_choice, least_rank, steady
+from steadycraft.games import steady
 from steadycraft.machines import machine_of
-from steadycraft.runs import is_run, places_of
+from steadycraft.plants import Plant
+from steadycraft.programs import Program
+from steadycraft.runs import is_run
 from steadycraft.slimming import slim
 from steadycraft.steering import shape_of, table_program
-from steadycraft.wishes import breaks_at, is_breaking
+from steadycraft.wishes import breaks_at, counted
 from tests import support
 from tests.checkers import Checks, Chooses, ChoosesByCode, slowly_parted
 from tests.playing import Play, in_order
@@ -75,6 +78,32 @@ def bent(chance, craft, machine):
         else:
             point[reading] = (chance.randrange(len(craft.levers)), chance.randrange(len(points)))
     return tuple(points)
+
+
+def bent_runs(found):
+    """With the last row gone or there, a push or a period less, a row otherwise."""
+    word, (start, periods) = found
+    reading, row, pushes = periods[-1]
+    ahead = periods[:-1]
+    others = [(reading, None, pushes), (reading, 0, pushes), (reading, 1, pushes), (reading, row, pushes[:-1]),
+              (reading, row, pushes + pushes[-1:]), (reading, row, ())]
+    runs = [(start, ahead + (other,)) for other in others] + [(start, ahead), (start, periods + periods[-1:])]
+    for at, (reading, row, pushes) in enumerate(ahead):
+        other = ahead[:at] + ((reading, 0 if row else 1, pushes),) + ahead[at + 1:]
+        runs += [(start, other + periods[-1:]), (start, other + (periods[-1][:1] + (None,) + periods[-1][2:],))]
+    return [(told, run) for run in runs for told in ("breaks", "no answer")]
+
+
+def spreading(waits):
+    """A craft that comes to ever more of 400 places, and a machine with a point for each of so many periods."""
+    craft = Craft(line(0, 399, X, (-1, 1)), ((0,),), ((("number", 0), 0, 0),), (1, 1, False), ((200,),))
+    return craft, tuple({(0,): (0, min(at + 1, waits - 1))} for at in range(waits))
+
+
+def standing(many):
+    """A craft that stays at any of 400 places, and a machine that goes round by so many points."""
+    craft = Craft(line(0, 399, X), ((0,),), ((("number", 0), 0, 0),), (1, 1, False), tuple((at,) for at in range(400)))
+    return craft, tuple({(0,): (0, (at + 1) % many)} for at in range(many))
 
 
 class CheckedCase(unittest.TestCase):
@@ -162,6 +191,21 @@ class CheckedTest(CheckedCase):
         word, (start, periods) = checked(craft, wishes, machine)
         self.assertEqual((word, [len(pushes) for _, _, pushes in periods]), ("no answer", [1, 0]))
 
+    def test_fewest_ticks_by_whatever_start(self):
+        # From 0 and from 20 one place each, by one tick or by six, leads on to 9; all others stay.
+        row, sums = ("in", 1), ("plus", X, ("in", 2))
+        moves = ("plus", ("times", ("minus", ("number", 1), row), sums), ("times", row, ("number", 9)))
+        stays = ("plus", X, ("times", ("minus", ("number", 1), row), ("in", 2)))
+        for far, near, start in [(6, 21, 20), (26, 1, 0)]:
+            modes = (((((far, far),), ((near, near),)), (moves,)), (None, (stays,)))
+            plant = Plant(Format(12, 0, 4), "near", ((0, 30),), modes, ((0, 0),))
+            craft = Craft(plant, ((0, 1), (1, 0)), ((X, 0, 0),), (1, 6, False), ((0,), (20,)))
+            machine = ({(place,): (1, 0) for place in range(31) if place != 9},)
+            found = checked(craft, (), machine)
+            self.check(support.Slow(craft), (), Chooses(machine), found)
+            periods = (((start,), 1, ((0,),)), ((near,), 1, ((0,),)), ((9,), None, ()))
+            self.assertEqual(found, ("no answer", ((start,), periods)))
+
     def test_without_wishes_and_with_empty_machines(self):
         craft = falling()
         self.assertEqual(checked(craft, (), ({},)), ("no answer", ((2,), (((2,), None, ()),))))
@@ -182,20 +226,24 @@ class CheckedTest(CheckedCase):
                 with self.assertRaises(NoMachine):
                     parting(craft, NEVER_FOUR, *pair)
 
-    def crowded(self, waits):
-        """A place for each of 400, and a point for each of so many periods that went by."""
-        craft = Craft(line(0, 399, X, (-1, 1)), ((0,),), ((("number", 0), 0, 0),), (1, 1, False), ((200,),))
-        return craft, tuple({(0,): (0, min(at + 1, waits - 1))} for at in range(waits))
-
     def test_too_many(self):
         # Behind n periods 2 n + 1 places can be: 317 periods and the first 100489 states.
-        craft, machine = self.crowded(400)
+        craft, machine = spreading(400)
         with self.assertRaises(TooMany) as caught:
             checked(craft, (), machine)
         self.assertEqual(caught.exception.most, 100000)
-        craft, machine = self.crowded(100)
+        craft, machine = spreading(100)
         word, states = checked(craft, (), machine)
         self.assertEqual(len(states), sum(2 * at + 1 for at in range(99)) + 400)
+        # Just 100000 are let, and no more: 400 places at each of 250 points, or of 251.
+        craft, machine = standing(250)
+        word, states = checked(craft, (), machine)
+        self.assertEqual((word, len(states)), ("holds", 100000))
+        self.assertIsNone(parting(craft, (), machine, machine))
+        craft, machine = standing(251)
+        for call in (checked, lambda craft, wishes, machine: parting(craft, wishes, machine, machine)):
+            with self.assertRaises(TooMany):
+                call(craft, (), machine)
 
     def test_nothing_passed_is_changed(self):
         for chance, slow, wishes, machine in some_cases(1102, 25):
@@ -271,6 +319,7 @@ class HoldingTest(unittest.TestCase):
             self.assertFalse(checks.is_state(bent))
             self.assertIs(is_holding(craft, wishes, machine, (bent,) + states[1:]), False)
             self.assertIs(is_holding(craft, wishes, machine, states + (bent,)), False)
+            self.assertIs(is_holding(craft, wishes, machine, (bent,) + states), False)
         for thing in support.junk():
             self.assertIs(is_holding(craft, wishes, machine, thing), False)
             self.assertIs(is_holding(craft, wishes, machine, (thing,)), False)
@@ -293,25 +342,13 @@ class FailingTest(unittest.TestCase):
             things += support.changed(found, chance.random(), 6) if found[0] != "holds" else []
             things += [self.drawn(chance, checks) for _ in range(4)]
             if found[0] != "holds":
-                things += self.bent(chance, found)
+                things += bent_runs(found)
             for thing in things:
                 right = checks.is_failing(thing, is_run)
                 self.assertIs(is_failing(craft, wishes, machine, thing), right, thing)
                 key = (thing[0], right) if type(thing) is tuple and thing and type(thing[0]) is str else right
                 told[key] = told.get(key, 0) + 1
         self.assertGreater(min(told[word, right] for word in ("breaks", "no answer") for right in (True, False)), 80)
-
-    def bent(self, chance, found):
-        """With the last row gone or there, a push or a period less, a row otherwise."""
-        word, (start, periods) = found
-        reading, row, pushes = periods[-1]
-        ahead = periods[:-1]
-        others = [(reading, None, pushes), (reading, 0, pushes), (reading, 1, pushes), (reading, row, pushes[:-1]),
-                  (reading, row, pushes + pushes[-1:]), (reading, row, ())]
-        runs = [(start, ahead + (other,)) for other in others] + [(start, ahead), (start, periods + periods[-1:])]
-        for at, (reading, row, pushes) in enumerate(ahead):
-            runs.append((start, periods[:at] + ((reading, 0 if row else 1, pushes),) + periods[at + 1:]))
-        return [(told, run) for run in runs for told in ("breaks", "no answer")]
 
     def drawn(self, chance, checks):
         """A run in which it chooses, of whatever many periods, until it breaks or has no answer; perhaps cut short."""
@@ -329,7 +366,7 @@ class FailingTest(unittest.TestCase):
                     break
                 pushes.append(chance.choice(checks.slow.pushes))
                 place = checks.slow.goals[place, state[1], pushes[-1]]
-                counts = support_counted(checks.wishes, counts, place)
+                counts = counted(checks.wishes, counts, place)
             if None in counts:
                 row = chance.choice((None, answer[0]))
                 return "breaks", (start, tuple(periods) + ((reading, row, tuple(pushes)),))
@@ -337,6 +374,15 @@ class FailingTest(unittest.TestCase):
             length = len(pushes) if checks.craft.lengths[2] else None
             state = (answer[1], answer[0], support.lacks_behind(state[2], reading), length, place, counts)
         return chance.choice(("breaks", "no answer")), (start, tuple(periods))
+
+    def test_the_last_period_of_both_sorts(self):
+        craft, lacking = falling(), ({(2,): (0, 0)},)
+        ahead, push = (((2,), 0, ((1,),)),), (1,)
+        for word, last, right in [("no answer", ((3,), None, ()), True), ("no answer", ((3,), None, (push,)), False),
+                                  ("no answer", ((3,), None, ((0,),)), False),
+                                  ("no answer", ((3,), 0, ()), False), ("breaks", ((3,), None, (push,)), True),
+                                  ("breaks", ((3,), 0, (push,)), False), ("breaks", ((3,), None, ()), False)]:
+            self.assertIs(is_failing(craft, NEVER_FOUR, lacking, (word, ((2,), ahead + (last,)))), right)
 
     def test_any_object(self):
         craft, machine = falling(), ({(2,): (0, 0), (3,): (0, 0)},)
@@ -352,11 +398,6 @@ class FailingTest(unittest.TestCase):
                 checks = Checks(slow, wishes, Chooses(machine))
                 states = tuple(sorted(state for state in checks.all_states()))
                 self.assertIs(is_holding(slow.craft, wishes, machine, states), False)
-
-
-def support_counted(wishes, counts, place):
-    from steadycraft.wishes import counted
-    return counted(wishes, counts, place)
 
 
 class PartingTest(unittest.TestCase):
@@ -428,6 +469,15 @@ class PartingTest(unittest.TestCase):
                 found = parting(craft, (), *pair)
                 self.assertEqual(found if due is None else found[0], due)
 
+    def test_the_least_readings_by_whatever_start(self):
+        # Both starts lead to 5, where the machines part; the later one gives the lesser reading.
+        plant = line(0, 9, ("number", 5))
+        craft = Craft(plant, ((0,), (1,)), ((("minus", ("number", 0), X), 0, 0),), (1, 1, False), ((1,), (8,)))
+        one = ({(-1,): (0, 0), (-8,): (0, 0), (-5,): (0, 0)},)
+        other = ({(-1,): (0, 0), (-8,): (0, 0), (-5,): (1, 0)},)
+        run = ((8,), (((-8,), 0, ((0,),)), ((-5,), None, ())))
+        self.assertEqual(parting(craft, (), one, other), (((-8,), (-5,)), run))
+
     def test_what_breaks_ahead_is_left_out(self):
         craft = falling(starts=((2,), (4,)))
         one = ({(2,): (0, 0), (3,): (0, 0), (4,): (0, 0)},)
@@ -441,7 +491,7 @@ class PartingTest(unittest.TestCase):
         self.assertEqual(parting(craft, (), ({},), ({(2,): (0, 0)},)), (((2,),), ((2,), (((2,), None, ()),))))
 
     def test_too_many(self):
-        craft, machine = CheckedTest().crowded(400)
+        craft, machine = spreading(400)
         with self.assertRaises(TooMany) as caught:
             parting(craft, (), machine, machine)
         self.assertEqual(caught.exception.most, 100000)
@@ -497,7 +547,7 @@ class CodeTest(CheckedCase):
                     self.assertIs(is_holding_code(craft, wishes, code, thing), checks.is_holding(thing))
             things = [found, ("no answer", found[1])]
             if word != "holds":
-                things += support.changed(found, chance.random(), 10) + FailingTest().bent(chance, found)
+                things += support.changed(found, chance.random(), 10) + bent_runs(found)
                 things += [("fault", thing[1]) for thing in things if type(thing) is tuple and len(thing) == 2]
             for thing in things:
                 self.assertIs(is_failing_code(craft, wishes, code, thing), checks.is_failing(thing, is_run), thing)
@@ -562,6 +612,16 @@ class CodeTest(CheckedCase):
         # A state that needn't come is let with all that follow it.
         more = tuple(sorted(states + ((((), ((3, 0),)), 1, (0,), None, (2,), (0,)),)))
         self.assertIs(is_holding_code(craft, NEVER_FOUR, code, more), True)
+
+    def test_cells_behind_knock_ones(self):
+        """A name that is not kept stands behind the knocks, whatever the handler does to these."""
+        craft, b = falling(), ("name", "b")
+        program = Program(shape_of(craft), craft.plant.form, ("a",), ("k", "l"), (), (
+            (("set", "b", ("number", 1)), ("set", "a", b), ("row", b)),), (("set", "k", ("number", 7)),))
+        code, _ = compiled(program)
+        word, states = checked_code(craft, NEVER_FOUR, code)
+        self.assertEqual((word, {state[0] for state in states}), ("holds", {((0,), ()), ((1,), ())}))
+        self.check(support.Slow(craft), NEVER_FOUR, ChoosesByCode(code), (word, states))
 
     def test_errors_in_their_order(self):
         craft = falling()

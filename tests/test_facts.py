@@ -16,7 +16,6 @@ from steadycraft.running import is_apart, ran
 from steadycraft.slimming import slim
 from steadycraft.steering import astray, steers, table_program
 from steadycraft.wishes import harder
-from tests import support
 from tests.playing import plays
 from tests.test_checking import answering, bent, every_reading
 from tests.test_games import some_games

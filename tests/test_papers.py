@@ -344,6 +344,7 @@ class RulesTest(PaperCase):
                                   (END, (THEN, 0, ((R0, ("form", "x")),)), False), (END, (THEN, 0, ((F0, ONE),)), False),
                                   (END, (THEN, 0, ((R0, ("count", 2)),)), False), (END, (THEN, 0, ((("d", 0), X),)), False),
                                   (END, (THEN, 0, ((("d", 2), X),)), False), (END, (THEN, 0, ((("r", 6), ONE),)), False),
+                                  (END, (THEN, 0, ((("r", -1), ONE),)), False), (END, (THEN, 0, ((("f", -1), X),)), False),
                                   (END, (THEN, 0, ((("f", 4), X),)), False), (END, (THEN, 0, ((R1, odd), (R0, odd))), False),
                                   (END, (THEN, 0, ((R0, odd), (R0, odd))), False), (END, (THEN, 0, [(R0, odd)]), False),
                                   (END, (THEN, 0), False), (END, (THEN, 0, (), ()), False), (END, (LAST, 0, ()), False),
@@ -352,6 +353,13 @@ class RulesTest(PaperCase):
             paper = (((), (), (), (0,)), claims + (claim,))
             self.assertIs(is_slow_paper(program, code, paper), right, claim)
             self.assertIs(is_paper(program, code, paper), right, claim)
+        # The end of a body within another one is no spot.
+        within = made(("if", ("less", ONE, ONE), (("row", ONE),), ()))
+        code, (homes, claims) = compiled(within)
+        for spot, right in [((0, 1, 0), True), ((0, 0, 0, 1, 0), False), ((0, 0, 1, 0, 0), False), ((0, 0, 0, 0, 0), False)]:
+            other = Code(SHAPE, F, code.cells, code.forms, code.rows + (END,), code.handler)
+            self.assertIs(is_slow_paper(within, other, (homes, claims + ((spot, 0, ()),))), right)
+            self.assertIs(is_paper(within, other, (homes, claims + ((spot, 0, ()),))), right)
         # The last row can't go on to one that is not there.
         code = coded(program, told + (("number", 0, 1),), 3, 0, 1)
         self.bad(program, code, (((), (), (), (0,)), claims + ((AT, 1, ()),)))

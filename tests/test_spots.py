@@ -124,6 +124,12 @@ class SpotsTest(unittest.TestCase):
             for answer in [None, True, False, 7, [None]]:
                 with self.assertRaises(NoSpot):
                     next_spot(program, thing, answer)
+        wide = made((("choose", ONE, ((1, (SET,)),), (SET,)), ("if", LESS, (SET,), (SET,)), ("rounds", 2, (SET,))))
+        for thing in [(0, 0, -1, 0, 0), (0, 0, 2, 0, 0), (0, 1, -1, 0, 0), (0, 1, 2, 0, 0), (0, 2, -1, 0, 0), (0, 2, 2, 0, 0),
+                      (0, -1, 0, 0, 0), (0, -2, 0, 0, 0), (0, 0, 0, -1, 0), (0, 0, 0, 0, -1), (0, 3, 0, 0, 0)]:
+            for answer in (None, True):
+                with self.assertRaises(NoSpot):
+                    next_spot(wide, thing, answer)
         for thing in support.changed((0, 2, 1, 0, 0), 3, 300) + support.changed((0, 0, 1, 0, 0), 4, 300):
             is_spot = type(thing) is tuple and all(type(one) is int for one in thing) and thing in right
             try:

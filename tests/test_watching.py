@@ -8,7 +8,7 @@ from steadycraft.errors import NoArea, NoLever, NoReading, NotAwaited, NothingDo
 from steadycraft.runs import is_run, places_of
 from steadycraft.watching import Watch
 from tests import support
-from tests.playing import Play, in_order
+from tests.playing import Play
 from tests.test_games import falling, line
 
 X = ("in", 0)

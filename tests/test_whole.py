@@ -1,6 +1,5 @@
 """The whole program: code of choices led through drawn worlds, watched, filmed, told to a desk; and code that is beaten."""
 
-import random
 import unittest
 
 from steadycraft.checking import checked_code
