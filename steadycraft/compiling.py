@@ -199,7 +199,8 @@ class Maker:
 def compiled(program):
     homes = homes_for(program)
     maker = Maker(program, homes)
-    maker.make(0)
+    for b in range(len(program.bodies)):
+        maker.make(b)
     maker.make(HANDLER)
     maker.fill_gaps()
     cells = (len(homes[0]), len(homes[1]), len(homes[2]))

@@ -223,6 +223,10 @@ class CompiledTest(unittest.TestCase):
         cases = rounds(20, rounds(20, ("choose", A, tuple((at, ()) for at in range(160)), ())))
         with self.assertRaises(TooMany):
             compiled(made((cases,)))
+        # Bodies have rows whether they are called or not.
+        long = (rounds(20, rounds(20, *(("set", "a", ("number", at)) for at in range(49)))),)
+        with self.assertRaises(TooMany):
+            compiled(made(long, long))
         # As many rows as there can be: what is told fits, whatever it is.
         for many in (9900, 9990, 9999):
             body = (rounds(9, *(("set", "a", ONE),) * (many // 9)),)
